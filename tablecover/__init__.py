@@ -1,0 +1,1 @@
+"""Tablecover: nets of gates laid out of small tables."""
