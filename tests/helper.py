@@ -90,3 +90,70 @@ def all_small_nets(many, count):
     choices = [list(itertools.product(range(many + at), repeat=2)) for at in range(count)]
     for places in itertools.product(*choices):
         yield (many, tuple((7, one, other) for one, other in places), (many + count - 1,))
+
+
+def all_ways(net, wire):
+    """All ways to the wire, by the words of [7] alone."""
+    many, gates, outs = net
+    if wire < many:
+        return [(wire,)]
+    kind, one, other = gates[wire - many]
+    return [way + (wire,) for place in sorted({one, other}) for way in all_ways(net, place)]
+
+
+def tells_by_ways(ways, wires):
+    """Whether each of the ways has one of the wires."""
+    return all(any(wire in way for wire in wires) for way in ways)
+
+
+def plain_cuts(net, gate, k):
+    """The cuts of the gate for k by a trial of all sets of lesser wires."""
+    ways = [frozenset(way) for way in all_ways(net, gate)]
+    # A way that has all wires of another one is told wherever that one is.
+    ways = [way for way in set(ways) if not any(other < way for other in ways)]
+    found = []
+    for size in range(1, k + 1):
+        for wires in itertools.combinations(range(gate), size):
+            if tells_by_ways(ways, wires) and not any(
+                tells_by_ways(ways, wires[:at] + wires[at + 1:]) for at in range(size)
+            ):
+                found.append(wires)
+    return tuple(sorted(found))
+
+
+def gates_of(net):
+    """The wires that are gates."""
+    return range(net[0], net[0] + len(net[1]))
+
+
+def small_nets():
+    """Small nets of all shapes, and some of more gates."""
+    for many, count in ((1, 1), (1, 2), (1, 3), (2, 1), (2, 2), (3, 2)):
+        yield from all_small_nets(many, count)
+    for seed in range(60):
+        yield random_net(seed, 1 + seed % 6, 1 + seed % 7)
+    yield from [tree(2), tree(4), tree(8), chain(1, 5), chain(3, 6), doubled_chain(2, 5), ladder(2, 6), ladder(4, 6)]
+
+
+def nets_at_bounds(count):
+    """Nets of so many gates, of many shapes."""
+    yield from [chain(8, count), chain(1, count), chain(3, count), ladder(8, count), ladder(2, count)]
+    yield from [doubled_chain(1, count), doubled_chain(8, count), mixed_tree(count), crossed(count)]
+    for seed in range(12):
+        yield random_net(1000 + seed, 8, count)
+        yield random_net(2000 + seed, 1 + seed % 8, count)
+
+
+def mixed_tree(count):
+    """A tree over eight inputs, and a chain of gates over it that take one wire twice, or a wire of the tree."""
+    gates = list(tree(8)[1])
+    for at in range(7, count):
+        wire = 8 + at
+        gates.append((9, wire - 1, wire - 1) if at % 3 == 0 else (6, wire - 1, wire - 6))
+    return (8, tuple(gates), (7 + count,))
+
+
+def crossed(count):
+    """Each gate takes a wire just ahead, and one that is seven further ahead: many ways that meet again."""
+    gates = tuple((14, 7 + at, at) for at in range(count))
+    return (8, gates, (7 + count,))

@@ -164,6 +164,8 @@ class Texts(unittest.TestCase):
         self.refused("", 0)
         self.refused("a", 0)
         self.refused("\n" * 600, 0)
+        self.refused("inputs " + "1" * 5000, 0)
+        self.refused("inputs 1\nouts " + "1" * 5000, 1)
         self.refused("inputs 2" + "\n" * 500, 1)
         self.refused("".join(map(lambda at: "~ !"[at % 3], range(600))), 0)
 
