@@ -1,4 +1,4 @@
-"""The package keeps to those rules of LANGUAGE.md that a look at the files can tell."""
+"""The package keeps to some of the rules of LANGUAGE.md; the others are for the reader to look at."""
 
 import ast
 import pathlib
