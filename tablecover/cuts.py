@@ -10,13 +10,16 @@ def tells(net, wire, wires):
     return not any(start < net[0] for start in reached(net, wire, wires))
 
 
+def rises(numbers):
+    """Whether each of the numbers is greater than the one ahead."""
+    return all(low < high for low, high in zip(numbers, numbers[1:]))
+
+
 def is_rising(thing, bound):
     """Whether the thing is a rising tuple of one or more wires below the bound."""
     if not isinstance(thing, tuple) or len(thing) == 0:
         return False
-    if not all(is_below(wire, bound) for wire in thing):
-        return False
-    return all(low < high for low, high in zip(thing, thing[1:]))
+    return all(is_below(wire, bound) for wire in thing) and rises(thing)
 
 
 def is_cut(net, gate, thing):
@@ -67,6 +70,11 @@ def all_cuts(net, k):
     """The cuts for k of each wire, in order; an input has none."""
     wires = list(range(wires_in(net)))
     masks = cut_masks(net, wires, k)
+    for gate in wires[net[0]:]:
+        if len(masks[gate]) == 0:
+            # For a k below 2, which is beyond the bounds, there may be no cut: then the places stand for it.
+            one, other = places(net, gate)
+            masks[gate] = [(1 << one) | (1 << other)]
     return tuple(told_cuts(masks[wire]) for wire in wires)
 
 

@@ -4,6 +4,8 @@ import copy
 import itertools
 import random
 
+from tablecover.cuts import cuts_of
+
 FORTY = int("9" * 40)
 
 
@@ -119,6 +121,89 @@ def plain_cuts(net, gate, k):
             ):
                 found.append(wires)
     return tuple(sorted(found))
+
+
+def plain_depths(net, k):
+    """The depths by the words of [10], of cuts by a trial of all sets of wires."""
+    told = [0] * net[0]
+    for gate in gates_of(net):
+        told.append(min(1 + max(told[wire] for wire in cut) for cut in plain_cuts(net, gate, k)))
+    return tuple(told)
+
+
+def plain_inside(net, gate, cut):
+    """The inside by the words of [9], on and on."""
+    many, gates, outs = net
+    found = {gate}
+    while True:
+        more = {place for wire in found for place in gates[wire - many][1:] if place >= many and place not in cut}
+        if more <= found:
+            return tuple(sorted(found))
+        found |= more
+
+
+def is_number(thing):
+    """Whether the thing is a whole number."""
+    return type(thing) is int
+
+
+def is_tuple(thing, size):
+    """Whether the thing is a tuple of so many parts."""
+    return type(thing) is tuple and len(thing) == size
+
+
+def other_numbers(number):
+    """Things that may stand by mistake where the number should."""
+    yield from [number - 1, number + 1, -number - 1, FORTY, -FORTY, None, str(number), (number,), [number], {}]
+    yield from [True, False]
+
+
+def other_tuples(thing):
+    """The tuple with a part left out, twice or exchanged with the next one, too long, or as another kind of thing."""
+    yield from [list(thing), {0: thing}, None, 0, "", (), [], (thing,), thing + (0,), thing + thing, thing[::-1]]
+    for at, part in enumerate(thing):
+        yield thing[:at] + thing[at + 1:]
+        yield thing[:at] + (part, part) + thing[at + 1:]
+        yield thing[:at] + thing[at + 1:at + 2] + (part,) + thing[at + 2:]
+
+
+def mutations(thing):
+    """Things that differ from the thing at one place, deep within or not; some may be the thing itself."""
+    if type(thing) is not tuple:
+        yield from other_numbers(thing) if is_number(thing) else [None, 0, thing + " ", thing[:-1], [thing], (thing,)]
+        return
+    yield from other_tuples(thing)
+    for at, part in enumerate(thing):
+        for other in mutations(part):
+            yield thing[:at] + (other,) + thing[at + 1:]
+
+
+def with_more(chance, cut, gate, k):
+    """The cut, perhaps with more wires of lesser numbers than the gate's, at most k."""
+    wires = set(cut)
+    while len(wires) < min(k, gate) and chance.random() < 0.4:
+        wires.add(chance.randrange(gate))
+    return tuple(sorted(wires))
+
+
+def cuts_with_more(chance, net, gate, k):
+    """Cuts of the gate of at most k wires, least ones and others."""
+    return [with_more(chance, cut, gate, k) for cut in cuts_of(net, gate, k)]
+
+
+def random_cover(seed, net, k, least=False, needless=0):
+    """A cover for k, with least cuts alone or with some that have more wires, and with so many gates put in at will."""
+    chance = random.Random(seed)
+    waiting = [out for out in net[2] if out >= net[0]]
+    waiting += [chance.choice(gates_of(net)) for turn in range(needless if net[1] else 0)]
+    tables = {}
+    while waiting:
+        gate = waiting.pop()
+        if gate not in tables:
+            cut = chance.choice(cuts_of(net, gate, k))
+            tables[gate] = cut if least else with_more(chance, cut, gate, k)
+            waiting += [wire for wire in tables[gate] if wire >= net[0]]
+    return tuple(sorted(tables.items()))
 
 
 def gates_of(net):

@@ -6,7 +6,7 @@ import unittest
 
 from helper import (
     FORTY, all_ways, chain, changed_things, doubled_chain, gates_of, is_plain, junk, ladder, nets_at_bounds, plain_cuts,
-    small_nets, tells_by_ways, tree,
+    plain_inside, small_nets, tells_by_ways, tree,
 )
 from tablecover.cuts import cuts_of, inside, is_cut, is_least_cut, tells, way_past
 from tablecover.nets import wires_in
@@ -274,17 +274,6 @@ class WayPast(unittest.TestCase):
         first = [way_past(*question) for question in asked]
         again = [way_past(*question) for question in asked[::-1]]
         self.assertEqual(first, again[::-1])
-
-
-def plain_inside(net, gate, cut):
-    """The inside by the point's own words, on and on."""
-    many, gates, outs = net
-    found = {gate}
-    while True:
-        more = {place for wire in found for place in gates[wire - many][1:] if place >= many and place not in cut}
-        if more <= found:
-            return tuple(sorted(found))
-        found |= more
 
 
 class Inside(unittest.TestCase):

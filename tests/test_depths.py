@@ -3,19 +3,9 @@
 import itertools
 import unittest
 
-from helper import (
-    chain, doubled_chain, gates_of, is_plain, ladder, nets_at_bounds, plain_cuts, random_net, small_nets, tree,
-)
+from helper import chain, doubled_chain, is_plain, ladder, nets_at_bounds, plain_depths, random_net, small_nets, tree
 from tablecover.depths import depths
 from tablecover.nets import wires_in
-
-
-def plain_depths(net, k):
-    """The depths by the point's own words, of cuts by a trial of all sets of wires."""
-    told = [0] * net[0]
-    for gate in gates_of(net):
-        told.append(min(1 + max(told[wire] for wire in cut) for cut in plain_cuts(net, gate, k)))
-    return tuple(told)
 
 
 class Depths(unittest.TestCase):

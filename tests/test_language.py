@@ -59,14 +59,25 @@ def bound_names(tree):
             yield node.name
 
 
-def module_names(tree):
+def own_names(tree):
+    """The names that the file defines at module level."""
     for node in tree.body:
         if isinstance(node, (ast.FunctionDef, ast.ClassDef)):
             yield node.name
-        elif isinstance(node, ast.ImportFrom):
-            yield from [name.asname or name.name for name in node.names]
         elif isinstance(node, ast.Assign):
             yield from [target.id for target in node.targets]
+
+
+def imports_of(tree):
+    """The files of the package and the names that this file takes from them."""
+    for node in ast.walk(tree):
+        if isinstance(node, ast.ImportFrom):
+            yield from [(node.module.partition(".")[2], part.name) for part in node.names]
+
+
+def module_names(tree):
+    yield from own_names(tree)
+    yield from [taken for module, taken in imports_of(tree)]
 
 
 class Language(unittest.TestCase):
@@ -99,6 +110,27 @@ class Language(unittest.TestCase):
                     self.assertIn(node, tree.body, name)
                     self.assertEqual(node.level, 0, name)
                     self.assertRegex(node.module, r"\Atablecover\.[a-z0-9_]+\Z", name)
+                    self.assertTrue(all(part.asname is None for part in node.names), name)
+
+    def test_imports_name_the_file_that_defines(self):
+        defined = {name[:-3]: set(own_names(tree)) for name, text, tree in sources()}
+        for name, text, tree in sources():
+            for module, taken in imports_of(tree):
+                self.assertIn(taken, defined[module], name)
+
+    def test_no_rings_of_imports(self):
+        waiting = {name[:-3]: {module for module, taken in imports_of(tree)} for name, text, tree in sources()}
+        while waiting:
+            free = [name for name in waiting if not waiting[name] & set(waiting)]
+            self.assertTrue(free, f"a ring among {sorted(waiting)}")
+            for name in free:
+                del waiting[name]
+
+    def test_each_import_is_used(self):
+        for name, text, tree in sources():
+            read = {node.id for node in ast.walk(tree) if isinstance(node, ast.Name)}
+            for module, taken in imports_of(tree):
+                self.assertIn(taken, read, name)
 
     def test_module_level(self):
         plain = (ast.FunctionDef, ast.ClassDef, ast.ImportFrom, ast.Assign, ast.Expr)
@@ -127,8 +159,7 @@ class Language(unittest.TestCase):
 
     def test_names(self):
         for name, text, tree in sources():
-            taken = [node for node in ast.walk(tree) if isinstance(node, ast.ImportFrom)]
-            imported = {part.name for node in taken for part in node.names}
+            imported = {taken for module, taken in imports_of(tree)}
             for bound in bound_names(tree):
                 self.assertFalse(bound in BUILTINS | BARRED_NAMES | imported, f"{name} {bound}")
                 self.assertTrue(bound == "__init__" or not bound.startswith("_"), f"{name} {bound}")
