@@ -1,6 +1,7 @@
 """What the tests share: things that are nothing right, and nets."""
 
 import copy
+import functools
 import itertools
 import random
 
@@ -87,6 +88,24 @@ def random_net(seed, many, count):
     return (many, gates, outs)
 
 
+def woven_net(seed, many, count):
+    """A net whose gates take what no gate takes yet, if they can; the outs are what is left."""
+    chance = random.Random(seed)
+    gates = []
+    for at in range(count):
+        left = untaken(many, gates)
+        places = [chance.choice(left or range(many + at)), chance.randrange(many + at)]
+        chance.shuffle(places)
+        gates.append((chance.randrange(16), *places))
+    return (many, tuple(gates), tuple(untaken(many, gates))[-8:])
+
+
+def untaken(many, gates):
+    """The gates that no gate takes."""
+    taken = {place for kind, one, other in gates for place in (one, other)}
+    return [wire for wire in range(many, many + len(gates)) if wire not in taken]
+
+
 def all_small_nets(many, count):
     """Nets of all places that so many gates can have, of one kind."""
     choices = [list(itertools.product(range(many + at), repeat=2)) for at in range(count)]
@@ -108,6 +127,7 @@ def tells_by_ways(ways, wires):
     return all(any(wire in way for wire in wires) for way in ways)
 
 
+@functools.cache
 def plain_cuts(net, gate, k):
     """The cuts of the gate for k by a trial of all sets of lesser wires."""
     ways = [frozenset(way) for way in all_ways(net, gate)]
@@ -123,6 +143,7 @@ def plain_cuts(net, gate, k):
     return tuple(sorted(found))
 
 
+@functools.cache
 def plain_depths(net, k):
     """The depths by the words of [10], of cuts by a trial of all sets of wires."""
     told = [0] * net[0]
@@ -176,6 +197,48 @@ def mutations(thing):
     for at, part in enumerate(thing):
         for other in mutations(part):
             yield thing[:at] + (other,) + thing[at + 1:]
+
+
+def laid_cases(net, k, depth, ends):
+    """A paper of tables by the words of [20]: it counts where ends(needs, left) is true, or nothing is left to be laid.
+
+    needs are the depths by which gates are needed, left is how many of these gates aren't laid.
+    """
+    depths = plain_depths(net, k)
+
+    def paper(needs, laid):
+        left = [gate for gate in needs if gate not in laid]
+        if not left or ends(needs, len(left)):
+            return ("count",)
+        gate = max(left)
+        papers = []
+        for cut in plain_cuts(net, gate, k):
+            if all(depths[wire] < needs[gate] for wire in cut):
+                more = dict(needs)
+                for wire in cut:
+                    if wire >= net[0]:
+                        more[wire] = min(more.get(wire, depth), needs[gate] - 1)
+                papers.append(paper(more, laid | {gate}))
+        return ("cases", tuple(papers))
+
+    return paper({out: depth for out in net[2] if out >= net[0]}, frozenset())
+
+
+def plain_fewest(net, k, depth):
+    """How many tables a cover of at most the depth has at least, by a trial of all sets of gates, or None."""
+    gates = list(gates_of(net))
+    cuts = {gate: plain_cuts(net, gate, k) for gate in gates}
+    for size in range(len(gates) + 1):
+        for chosen in itertools.combinations(gates, size):
+            told = {wire: 0 for wire in range(net[0])}
+            # Each gate is as shallow as can be by tables of these gates alone; cuts that are no least ones do no more.
+            for gate in chosen:
+                fit = [cut for cut in cuts[gate] if all(wire in told for wire in cut)]
+                if fit:
+                    told[gate] = min(1 + max(told[wire] for wire in cut) for cut in fit)
+            if all(out in told and told[out] <= depth for out in net[2]):
+                return size
+    return None
 
 
 def with_more(chance, cut, gate, k):
