@@ -3,7 +3,6 @@
 from tablecover.covers import leaned
 from tablecover.cuts import all_cuts
 from tablecover.depths import depths_by, one_deeper
-from tablecover.nets import wires_in
 
 
 def chosen(cuts, told):
@@ -17,8 +16,17 @@ def choice(net, gate, k):
     return chosen(cuts[gate], depths_by(net, cuts))
 
 
+def all_choices(net, cuts):
+    """A table for each gate, rising, by its choice, cuts being those of each wire."""
+    told = depths_by(net, cuts)
+    return tuple((gate, chosen(cuts[gate], told)) for gate in range(net[0], len(cuts)))
+
+
+def plain_by(net, cuts):
+    """The plain cover, cuts being those of each wire."""
+    return leaned(net, all_choices(net, cuts))
+
+
 def plain_cover(net, k):
     """The choices of the outs that are gates, and of all gates that are needed then."""
-    cuts = all_cuts(net, k)
-    told = depths_by(net, cuts)
-    return leaned(net, tuple((gate, chosen(cuts[gate], told)) for gate in range(net[0], wires_in(net))))
+    return plain_by(net, all_cuts(net, k))

@@ -5,6 +5,7 @@ import functools
 import itertools
 import random
 
+from tablecover.covers import cover_holds
 from tablecover.cuts import cuts_of
 
 FORTY = int("9" * 40)
@@ -106,6 +107,53 @@ def untaken(many, gates):
     return [wire for wire in range(many, many + len(gates)) if wire not in taken]
 
 
+def turned_kind(kind, first, second, swap):
+    """The kind that makes the same of its places' worths, where the first or second is turned, or they swap."""
+    told = 0
+    for low, high in itertools.product((0, 1), repeat=2):
+        one, other = (high, low) if swap else (low, high)
+        told += 2 ** (low + 2 * high) * (kind // 2 ** ((one ^ first) + 2 * (other ^ second)) % 2)
+    return told
+
+
+def rebuilt(seed, net, most=16):
+    """A net of at most so many gates that does the same: places swapped, worths turned, gates more, wires handed on."""
+    chance = random.Random(seed)
+    many, gates, outs = net
+    spare = most - len(gates)
+    calls = {wire: (wire, 0) for wire in range(many)}
+    told = []
+    for at, (kind, *places) in enumerate(gates):
+        swap = chance.randrange(2)
+        ends = [calls[place] for place in places]
+        kind = turned_kind(kind, ends[0][1], ends[1][1], swap)
+        wires = [wire for wire, turn in ends][::-1 if swap else 1]
+        while spare > 0 and chance.random() < 0.4:
+            spare -= 1
+            side = chance.randrange(2)
+            # Kind 10 hands its one on, kind 12 its other.
+            hands = chance.choice([(10, wires[side], chance.randrange(many + len(told))),
+                                   (12, chance.randrange(many + len(told)), wires[side])])
+            told.append(hands)
+            if chance.random() < 0.7:
+                wires[side] = many + len(told) - 1
+        turn = 0 if many + at in outs else chance.randrange(2)
+        calls[many + at] = (many + len(told), turn)
+        told.append((15 - kind if turn else kind, *wires))
+    return (many, tuple(told), tuple(calls[out][0] for out in outs))
+
+
+def only_at(many, number):
+    """A net whose out has the worth 1 just at the row of this number."""
+    bits = [number // 2 ** at % 2 for at in range(many)]
+    if many == 1:
+        return (1, ((2 ** (3 * bits[0]), 0, 0),), (1,))
+    gates = [(2 ** (bits[0] + 2 * bits[1]), 0, 1)]
+    for at in range(2, many):
+        gates.append((2 ** (1 + 2 * bits[at]), many + at - 2, at))
+    return (many, tuple(gates), (2 * many - 2,))
+
+
 def all_small_nets(many, count):
     """Nets of all places that so many gates can have, of one kind."""
     choices = [list(itertools.product(range(many + at), repeat=2)) for at in range(count)]
@@ -161,6 +209,154 @@ def plain_inside(net, gate, cut):
         if more <= found:
             return tuple(sorted(found))
         found |= more
+
+
+def plain_choices(net, gate, k, depths):
+    """The gate's cuts; those by which it has its depth; of these those with the fewest wires; of these the first."""
+    cuts = list(plain_cuts(net, gate, k))
+    fit = [cut for cut in cuts if 1 + max(depths[wire] for wire in cut) == depths[gate]]
+    few = [cut for cut in fit if len(cut) == min(map(len, fit))]
+    return [cuts, fit, few, few[:1]]
+
+
+def plain_cover_holds(net, k, thing):
+    """Whether the thing is a cover, by the words of [14]."""
+    if type(thing) is not tuple or not all(is_plain_table(net, k, table) for table in thing):
+        return False
+    gates = [gate for gate, cut in thing]
+    taken = list(net[2]) + [wire for gate, cut in thing for wire in cut]
+    return gates == sorted(set(gates)) and all(wire < net[0] or wire in gates for wire in taken)
+
+
+def is_plain_table(net, k, thing):
+    """Whether the thing is a table of a cover, by the words of [14]."""
+    if not is_tuple(thing, 2):
+        return False
+    gate, cut = thing
+    if not is_number(gate) or gate not in gates_of(net):
+        return False
+    if type(cut) is not tuple or not 1 <= len(cut) <= k or not all(is_number(wire) for wire in cut):
+        return False
+    if list(cut) != sorted(set(cut)) or not all(0 <= wire < gate for wire in cut):
+        return False
+    return tells_by_ways(all_ways(net, gate), cut)
+
+
+def plain_leaned(net, cover):
+    """The needed tables by the words of [14]."""
+    cuts = dict(cover)
+    needed = set()
+    waiting = list(net[2])
+    while waiting:
+        wire = waiting.pop()
+        if wire in cuts and wire not in needed:
+            needed.add(wire)
+            waiting += cuts[wire]
+    return tuple((gate, cut) for gate, cut in cover if gate in needed)
+
+
+def plain_depth(net, cover):
+    """The cover's depth by the words of [14]."""
+    cuts = dict(cover)
+
+    def depth(wire):
+        return 0 if wire < net[0] else 1 + max(depth(below) for below in cuts[wire])
+
+    return max(depth(out) for out in net[2])
+
+
+def forced_worths(net, row, held):
+    """The worths of all wires where the held ones have these, whatever would be made of them."""
+    many, gates, outs = net
+    told = []
+    for wire in range(net[0] + len(net[1])):
+        if wire in held:
+            told.append(held[wire])
+        elif wire < many:
+            told.append(row[wire])
+        else:
+            kind, one, other = gates[wire - many]
+            told.append(kind // 2 ** (told[one] + 2 * told[other]) % 2)
+    return told
+
+
+def plain_content(net, wire, wires, rows):
+    """The content by the words of [12], tried at some rows of the inputs, which make no difference."""
+    told = []
+    for number in range(2 ** len(wires)):
+        held = {one: number // 2 ** at % 2 for at, one in enumerate(wires)}
+        found = {forced_worths(net, row, held)[wire] for row in rows}
+        assert len(found) == 1, (net, wire, wires)
+        told.append(found.pop())
+    return tuple(told)
+
+
+def all_rows(net):
+    """All rows, in any order."""
+    return list(itertools.product((0, 1), repeat=net[0]))
+
+
+def all_covers(net, k):
+    """All covers for k with cuts of any wires, least or not."""
+    choices = []
+    for gate in gates_of(net):
+        cuts = [cut for size in range(1, k + 1) for cut in itertools.combinations(range(gate), size)]
+        choices.append([()] + [((gate, cut),) for cut in cuts])
+    for tables in itertools.product(*choices):
+        cover = sum(tables, ())
+        if cover_holds(net, k, cover):
+            yield cover
+
+
+def plain_outs_at(net, row):
+    """The worths of the outs by the words of [5]."""
+    told = forced_worths(net, row, {})
+    return tuple(told[out] for out in net[2])
+
+
+def plain_first_unlike(one, other):
+    """The least number of a row at which the two nets are unlike by the words of [22], or None."""
+    for number in range(2 ** one[0]):
+        row = tuple(number // 2 ** at % 2 for at in range(one[0]))
+        if plain_outs_at(one, row) != plain_outs_at(other, row):
+            return number
+    return None
+
+
+def plain_likeness_holds(one, other, thing):
+    """Whether the thing is a likeness of the matching nets that holds, by the words of [23], clause by clause."""
+    if type(thing) is not tuple or len(thing) > 60:
+        return False
+    shown = {(wire, wire) for wire in range(one[0])}
+    for step in thing:
+        if not is_plain_step(one, other, step) or not plain_step_holds(one, other, step, shown):
+            return False
+        shown.add(step[:2])
+    return shown.issuperset(zip(one[2], other[2]))
+
+
+def is_plain_step(one, other, thing):
+    """Whether the thing is made as a step is, of wires that are there."""
+    if not is_tuple(thing, 3) or type(thing[2]) is not tuple or not 1 <= len(thing[2]) <= 8:
+        return False
+    couples = (thing[:2], *thing[2])
+    if not all(is_tuple(pair, 2) and is_number(pair[0]) and is_number(pair[1]) for pair in couples):
+        return False
+    bounds = [net[0] + len(net[1]) for net in (one, other)]
+    return all(0 <= first < bounds[0] and 0 <= second < bounds[1] for first, second in couples)
+
+
+def plain_step_holds(one, other, step, shown):
+    """Whether the step holds where these pairs are shown."""
+    pairs = step[2]
+    if list(pairs) != sorted(set(pairs)) or not shown.issuperset(pairs):
+        return False
+    told = []
+    for net, wire, wires in zip((one, other), step, zip(*pairs)):
+        if len(set(wires)) < len(wires) or not tells_by_ways(all_ways(net, wire), wires):
+            return False
+        told.append(plain_content(net, wire, wires, [(0,) * net[0], (1,) * net[0]]))
+    return told[0] == told[1]
 
 
 def is_number(thing):

@@ -5,8 +5,8 @@ import random
 import unittest
 
 from helper import (
-    all_ways, chain, cuts_with_more, doubled_chain, gates_of, is_plain, ladder, nets_at_bounds, random_net, small_nets,
-    tells_by_ways, tree,
+    all_rows, all_ways, chain, cuts_with_more, doubled_chain, gates_of, is_plain, ladder, nets_at_bounds,
+    plain_content, random_net, small_nets, tells_by_ways, tree,
 )
 from tablecover.contents import content, idle, without
 from tablecover.cuts import cuts_of
@@ -14,36 +14,6 @@ from tablecover.nets import row_of, wires_in, worths
 
 # Wires 0, 1, 2; 3 is 0 and 1; 4 is 1 unlike 2; 5 is 3 or 4; 6 is not 5; 7 is 0 but not 6.
 NET = (3, ((8, 0, 1), (6, 1, 2), (14, 3, 4), (5, 5, 5), (2, 0, 6)), (6, 7))
-
-
-def forced_worths(net, row, held):
-    """The worths of all wires where the held ones have these, whatever would be made of them."""
-    many, gates, outs = net
-    told = []
-    for wire in range(wires_in(net)):
-        if wire in held:
-            told.append(held[wire])
-        elif wire < many:
-            told.append(row[wire])
-        else:
-            kind, one, other = gates[wire - many]
-            told.append(kind // 2 ** (told[one] + 2 * told[other]) % 2)
-    return told
-
-
-def plain_content(net, wire, wires, rows):
-    """The content by the words of [12], tried at some rows of the inputs, which make no difference."""
-    told = []
-    for number in range(2 ** len(wires)):
-        held = {one: number // 2 ** at % 2 for at, one in enumerate(wires)}
-        found = {forced_worths(net, row, held)[wire] for row in rows}
-        assert len(found) == 1, (net, wire, wires)
-        told.append(found.pop())
-    return tuple(told)
-
-
-def all_rows(net):
-    return list(itertools.product((0, 1), repeat=net[0]))
 
 
 def random_telling(chance, net, wire, size):

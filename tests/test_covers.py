@@ -4,8 +4,9 @@ import itertools
 import unittest
 
 from helper import (
-    FORTY, all_ways, chain, changed_things, doubled_chain, gates_of, is_number, is_plain, is_tuple, junk, ladder,
-    mutations, nested, nets_at_bounds, plain_inside, random_cover, random_net, small_nets, tells_by_ways, tree,
+    FORTY, chain, changed_things, doubled_chain, gates_of, is_number, is_plain, junk, ladder, mutations, nested,
+    nets_at_bounds, plain_cover_holds, plain_depth, plain_inside, plain_leaned, random_cover, random_net, small_nets,
+    tree,
 )
 from tablecover.covers import cover_holds, depth_by, doubled, leaned
 from tablecover.cuts import cuts_of
@@ -13,49 +14,6 @@ from tablecover.cuts import cuts_of
 # Wires 0, 1, 2; 3 takes 0 and 1; 4 takes 1 and 2; 5 takes 3 and 4; 6 takes 5 twice; 7 takes 3 and 2.
 NET = (3, ((8, 0, 1), (6, 1, 2), (14, 3, 4), (1, 5, 5), (7, 3, 2)), (6, 7))
 COVER = ((3, (0, 1)), (4, (1, 2)), (5, (3, 4)), (6, (5,)), (7, (2, 3)))
-
-
-def plain_cover_holds(net, k, thing):
-    """Whether the thing is a cover, by the words of [14]."""
-    if type(thing) is not tuple or not all(is_plain_table(net, k, table) for table in thing):
-        return False
-    gates = [gate for gate, cut in thing]
-    taken = list(net[2]) + [wire for gate, cut in thing for wire in cut]
-    return gates == sorted(set(gates)) and all(wire < net[0] or wire in gates for wire in taken)
-
-
-def is_plain_table(net, k, thing):
-    if not is_tuple(thing, 2):
-        return False
-    gate, cut = thing
-    if not is_number(gate) or gate not in gates_of(net):
-        return False
-    if type(cut) is not tuple or not 1 <= len(cut) <= k or not all(is_number(wire) for wire in cut):
-        return False
-    if list(cut) != sorted(set(cut)) or not all(0 <= wire < gate for wire in cut):
-        return False
-    return tells_by_ways(all_ways(net, gate), cut)
-
-
-def plain_leaned(net, cover):
-    cuts = dict(cover)
-    needed = set()
-    waiting = list(net[2])
-    while waiting:
-        wire = waiting.pop()
-        if wire in cuts and wire not in needed:
-            needed.add(wire)
-            waiting += cuts[wire]
-    return tuple((gate, cut) for gate, cut in cover if gate in needed)
-
-
-def plain_depth(net, cover):
-    cuts = dict(cover)
-
-    def depth(wire):
-        return 0 if wire < net[0] else 1 + max(depth(below) for below in cuts[wire])
-
-    return max(depth(out) for out in net[2])
 
 
 def plain_doubled(net, cover):

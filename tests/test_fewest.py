@@ -4,8 +4,8 @@ import itertools
 import unittest
 
 from helper import (
-    FORTY, chain, doubled_chain, gates_of, is_plain, ladder, laid_cases, plain_depths, plain_fewest,
-    random_net, small_nets, tree, woven_net,
+    FORTY, all_covers, chain, doubled_chain, is_plain, ladder, laid_cases, plain_depths, plain_fewest, random_net,
+    small_nets, tree, woven_net,
 )
 from tablecover.countchecks import shown_count
 from tablecover.covers import cover_holds, depth_by
@@ -46,18 +46,6 @@ def few_nets():
 def least_depth(net, k):
     told = plain_depths(net, k)
     return max(told[out] for out in net[2])
-
-
-def all_covers(net, k):
-    """All covers for k with cuts of any wires, least or not."""
-    choices = []
-    for gate in gates_of(net):
-        cuts = [cut for size in range(1, k + 1) for cut in itertools.combinations(range(gate), size)]
-        choices.append([()] + [((gate, cut),) for cut in cuts])
-    for tables in itertools.product(*choices):
-        cover = sum(tables, ())
-        if cover_holds(net, k, cover):
-            yield cover
 
 
 def is_count_paper(thing):

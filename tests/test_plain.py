@@ -4,19 +4,11 @@ import itertools
 import unittest
 
 from helper import (
-    chain, doubled_chain, gates_of, is_plain, ladder, nets_at_bounds, plain_cuts, plain_depths, random_net, small_nets,
-    tree,
+    chain, doubled_chain, gates_of, is_plain, ladder, nets_at_bounds, plain_choices, plain_cuts, plain_depths,
+    random_net, small_nets, tree,
 )
 from tablecover.covers import cover_holds, depth_by, leaned
 from tablecover.plain import choice, plain_cover
-
-
-def plain_choices(net, gate, k, depths):
-    """The gate's cuts; those by which it has its depth; of these those with the fewest wires; of these the first."""
-    cuts = list(plain_cuts(net, gate, k))
-    fit = [cut for cut in cuts if 1 + max(depths[wire] for wire in cut) == depths[gate]]
-    few = [cut for cut in fit if len(cut) == min(map(len, fit))]
-    return [cuts, fit, few, few[:1]]
 
 
 def cover_of_choices(net, choices):

@@ -1,0 +1,22 @@
+"""Whether two nets do the same at each row."""
+
+from tablecover.errors import NoMatch
+from tablecover.nets import outs_at, row_of
+
+
+def must_match(one, other):
+    """Refuse two nets that do not match."""
+    if one[0] != other[0]:
+        raise NoMatch("not as many inputs")
+    if len(one[2]) != len(other[2]):
+        raise NoMatch("not as many outs")
+
+
+def first_unlike(one, other):
+    """The least number of a row at which the outs' worths of the two nets are unlike, or None."""
+    must_match(one, other)
+    for number in range(1 << one[0]):
+        row = row_of(one, number)
+        if outs_at(one, row) != outs_at(other, row):
+            return number
+    return None
