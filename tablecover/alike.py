@@ -12,6 +12,11 @@ def must_match(one, other):
         raise NoMatch("not as many outs")
 
 
+def same_input(net, first, second):
+    """Whether wires of two nets of as many inputs as this one are the same input."""
+    return first == second and first < net[0]
+
+
 def first_unlike(one, other):
     """The least number of a row at which the outs' worths of the two nets are unlike, or None."""
     must_match(one, other)

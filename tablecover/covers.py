@@ -2,7 +2,7 @@
 
 from tablecover.cuts import inside, is_cut, rises
 from tablecover.depths import one_deeper
-from tablecover.nets import is_below, wires_in
+from tablecover.nets import has_gate
 
 
 def is_table(net, k, thing):
@@ -10,9 +10,7 @@ def is_table(net, k, thing):
     if not isinstance(thing, tuple) or len(thing) != 2:
         return False
     gate, cut = thing
-    if not is_below(gate, wires_in(net)) or gate < net[0]:
-        return False
-    return is_cut(net, gate, cut) and len(cut) <= k
+    return has_gate(net, gate) and is_cut(net, gate, cut) and len(cut) <= k
 
 
 def have_tables(net, wires, gates):

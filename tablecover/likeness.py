@@ -1,11 +1,6 @@
 """Likenesses: papers that two nets do the same."""
 
-from tablecover.alike import first_unlike
-
-
-def same_input(net, first, second):
-    """Whether wires of two nets of as many inputs as this one are the same input."""
-    return first == second and first < net[0]
+from tablecover.alike import first_unlike, same_input
 
 
 def likeness(one, other):

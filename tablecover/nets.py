@@ -56,6 +56,11 @@ def wires_in(net):
     return net[0] + len(net[1])
 
 
+def has_gate(net, thing):
+    """Whether the thing, anything, is a gate of the net."""
+    return is_below(thing, wires_in(net)) and thing >= net[0]
+
+
 def row_of(net, number):
     """The row of inputs that has this number."""
     return tuple((number >> at) & 1 for at in range(net[0]))

@@ -4,8 +4,6 @@ from tablecover.errors import NoText
 from tablecover.nets import MOST_GATES, are_outs, is_gate, is_many
 
 FIGURES = "0123456789"
-# Python itself fails at numbers of thousands of figures, and no text that may be handed in has more than 600 signs.
-MOST_FIGURES = 600
 
 
 def show_net(net):
@@ -20,13 +18,23 @@ def show_net(net):
 
 def number_in(word):
     """The number that is written in the word, or None."""
-    if word == "" or len(word) > MOST_FIGURES:
-        return None
-    if any(sign not in FIGURES for sign in word):
+    if word == "" or any(sign not in FIGURES for sign in word):
         return None
     if word[0] == "0" and word != "0":
         return None
-    return int(word)
+    number = 0
+    # Figure by figure, as Python's own reading fails at thousands of figures.
+    for sign in word:
+        number = 10 * number + FIGURES.index(sign)
+    return number
+
+
+def numbers_in(words):
+    """The numbers that are written in the words, or None where some word is no number."""
+    numbers = [number_in(word) for word in words]
+    if None in numbers:
+        return None
+    return tuple(numbers)
 
 
 def numbers_behind(head, row):
@@ -34,10 +42,7 @@ def numbers_behind(head, row):
     words = row.split(" ")
     if words[0] != head:
         return None
-    numbers = [number_in(word) for word in words[1:]]
-    if None in numbers:
-        return None
-    return tuple(numbers)
+    return numbers_in(words[1:])
 
 
 def inputs_in(row):

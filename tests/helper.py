@@ -501,3 +501,84 @@ def crossed(count):
     """Each gate takes a wire just ahead, and one that is seven further ahead: many ways that meet again."""
     gates = tuple((14, 7 + at, at) for at in range(count))
     return (8, gates, (7 + count,))
+
+
+def alike_pairs(one, other):
+    """The pairs of a wire of each net that are alike at each row, but pairs of the same input."""
+    sides = []
+    for net in (one, other):
+        worths = [forced_worths(net, row, {}) for row in all_rows(net)]
+        sides.append(list(zip(*worths)))
+    return [(first, second) for first, held in enumerate(sides[0]) for second, own in enumerate(sides[1])
+            if held == own and not (first == second and first < one[0])]
+
+
+def drawn_pairs(chance, pool, size):
+    """At most so many of the pairs, rising, no wire twice."""
+    told = []
+    for pair in chance.sample(pool, len(pool)):
+        if len(told) < size and all(pair[0] != first and pair[1] != second for first, second in told):
+            told.append(pair)
+    return tuple(sorted(told))
+
+
+@functools.cache
+def drawn_likeness(seed, one, other, most=60):
+    """A likeness by another hand, of nets that do the same: steps at will, by at most so many steps."""
+    chance = random.Random(seed)
+    inputs = [(wire, wire) for wire in range(one[0])]
+    shown, steps = set(inputs), []
+    pairs = alike_pairs(one, other)
+    # Those that the outs need go last, so that they are shown however many there are.
+    outs = [pair for pair in dict.fromkeys(zip(one[2], other[2])) if pair in pairs]
+    asked = sorted(chance.sample(pairs, min(len(pairs), most - len(outs) - 1)), key=sum)
+    for pair in [chance.choice(inputs)] + asked + outs:
+        trials = [drawn_pairs(chance, sorted(shown), chance.randrange(1, 9)) for turn in range(6)]
+        held = (pairs for pairs in trials if plain_step_holds(one, other, (*pair, pairs), shown))
+        steps.append((*pair, next(held, tuple(inputs))))
+        shown.add(pair)
+    return tuple(steps)
+
+
+def plain_changed(net, thing):
+    """The net that comes of the change by the words of [24], or None."""
+    many, gates, outs = net
+    if type(thing) is not tuple or thing == () or type(thing[0]) is not str:
+        return None
+    word, *parts = thing
+    if word != "outs" and not all(is_number(part) for part in parts):
+        return None
+    gates = [list(gate) for gate in gates]
+    count = many + len(gates)
+    if word == "kind" and len(parts) == 2 and many <= parts[0] < count and 0 <= parts[1] < 16:
+        gates[parts[0] - many][0] = parts[1]
+    elif word == "lead" and len(parts) == 3 and many <= parts[0] < count and parts[1] in (0, 1) \
+            and 0 <= parts[2] < parts[0]:
+        gates[parts[0] - many][1 + parts[1]] = parts[2]
+    elif word == "more" and len(parts) == 3 and len(gates) < 16 and 0 <= parts[0] < 16 \
+            and 0 <= parts[1] < count and 0 <= parts[2] < count:
+        gates.append(parts)
+    elif word == "less" and parts == [] and gates and count - 1 not in outs:
+        gates.pop()
+    elif word == "outs" and len(parts) == 1 and type(parts[0]) is tuple and 1 <= len(parts[0]) <= 8 \
+            and all(is_number(out) and 0 <= out < count for out in parts[0]):
+        outs = parts[0]
+    else:
+        return None
+    return (many, tuple(tuple(gate) for gate in gates), outs)
+
+
+def drawn_change(chance, net):
+    """A change at will, sometimes just beyond what can be done."""
+    count = net[0] + len(net[1])
+    word = chance.choice(["kind", "lead", "lead", "lead", "more", "more", "less", "outs"])
+    gate = chance.randrange(net[0], count) if net[1] and chance.random() < 0.95 else chance.randrange(-1, count + 2)
+    if word == "kind":
+        return (word, gate, chance.randrange(17))
+    if word == "lead":
+        return (word, gate, chance.randrange(2), chance.randrange(max(1, gate + (chance.random() < 0.1))))
+    if word == "more":
+        return (word, chance.randrange(16), chance.randrange(count), chance.randrange(count + (chance.random() < 0.1)))
+    if word == "less":
+        return (word,)
+    return (word, tuple(chance.randrange(count) for turn in range(chance.choice([1, 2, 3, 8, 9]))))

@@ -164,6 +164,22 @@ class Language(unittest.TestCase):
                 self.assertFalse(bound in BUILTINS | BARRED_NAMES | imported, f"{name} {bound}")
                 self.assertTrue(bound == "__init__" or not bound.startswith("_"), f"{name} {bound}")
 
+    def test_no_name_is_a_method_and_an_attribute(self):
+        methods, attributes, read = set(), set(), set()
+        for name, text, tree in sources():
+            called = {id(node.func) for node in ast.walk(tree) if isinstance(node, ast.Call)}
+            for node in ast.walk(tree):
+                if isinstance(node, ast.ClassDef):
+                    methods |= {part.name for part in node.body if isinstance(part, ast.FunctionDef)}
+                if isinstance(node, ast.Attribute):
+                    if isinstance(node.ctx, ast.Store):
+                        attributes.add(node.attr)
+                    elif id(node) not in called:
+                        read.add(node.attr)
+        self.assertFalse(methods & attributes)
+        self.assertFalse(methods & METHODS - {"__init__"})
+        self.assertLessEqual(read, attributes)
+
     def test_only_told_builtins_and_methods(self):
         own = {bound for name, text, tree in sources() for bound in bound_names(tree)}
         for name, text, tree in sources():
